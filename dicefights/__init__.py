@@ -1,0 +1,1 @@
+"""Fights by dice."""
