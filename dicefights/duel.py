@@ -1,7 +1,7 @@
 """The calls on one object, one behind another."""
 
 from dicefights.dicecalls import answer_dice_call
-from dicefights.refusals import OutOfRange, Refusal
+from dicefights.refusals import NotDice, NotWithinBounds, OutOfRange
 from dicefights.texts import read_text
 
 # For each call: the least and the greatest of each of its numbers, then how many texts it has.
@@ -58,8 +58,12 @@ def answer_call(call, numbers, rows):
         check_ranges(FORMS[call][0], numbers, rows)
         texts = [read_text(row) for row in rows]
         return [0] + answer_dice_call(call, numbers, texts)
-    except Refusal as refusal:
-        return [refusal.number]
+    except OutOfRange:
+        return [-1]
+    except NotDice:
+        return [-3]
+    except NotWithinBounds:
+        return [-4]
 
 
 def answer_next(reader):

@@ -50,7 +50,8 @@ class Roll(unittest.TestCase):
         for seed, number, many in edges:
             self.check(seed, number, many, "2d6")
         for seed, number, many in (
-            (-1, 0, 1), (-10 ** 18, 0, 1), (10 ** 18 + 1, 0, 1), (0, -1, 1), (0, 1000001, 1), (0, 10 ** 18, 1), (0, -10 ** 18, 1),
+            (-1, 0, 1), (-10 ** 18, 0, 1), (10 ** 18 + 1, 0, 1),
+            (0, -1, 1), (0, 1000001, 1), (0, 10 ** 18, 1), (0, -10 ** 18, 1),
             (0, 0, 0), (0, 0, -1), (0, 0, 21), (0, 0, 10 ** 18), (0, 0, -10 ** 18),
         ):
             self.assertEqual(ask(call(ROLL, seed, number, many, "2d6")), [[-1]], (seed, number, many))
