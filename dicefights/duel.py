@@ -1,8 +1,14 @@
 """The calls on one object, one behind another."""
 
 from dicefights.dicecalls import answer_dice_call
-from dicefights.refusals import NotDice, NotWithinBounds, OutOfRange
+from dicefights.fightcalls import answer_fight_call
+from dicefights.fights import Game
+from dicefights.refusals import AboveMost, AlreadyOver, NoActs, NoDuel, NoSuchAct
+from dicefights.refusals import NotDice, NotWithinBounds, OutOfRange, TooManyActs
 from dicefights.texts import read_text
+
+# The calls before this one hang on no duel, this one opens one, and those behind it ask for one that is open.
+FIRST_FIGHT_CALL = 7
 
 # For each call: the least and the greatest of each of its numbers, then how many texts it has.
 FORMS = {
@@ -13,6 +19,13 @@ FORMS = {
     4: ((), 2),
     5: ((), 1),
     6: (((0, 1000000000000000000), (0, 1000000), (1, 20)), 1),
+    7: (((1, 15), (1, 15)), 0),
+    8: (((0, 1), (-100000, 100000)), 2),
+    9: (((0, 1),), 1),
+    10: (((0, 8), (0, 1), (0, 15), (0, 15)), 0),
+    11: (((0, 8), (0, 1), (0, 15), (0, 15)), 0),
+    12: (((0, 1),), 0),
+    13: (((0, 1), (1, 3), (1, 8), (0, 15), (0, 15)), 0),
 }
 
 
@@ -52,21 +65,47 @@ def check_ranges(ranges, numbers, rows):
                 raise OutOfRange()
 
 
-def answer_call(call, numbers, rows):
+def check_duel(game, call):
+    """Refuse the call if it asks for a duel and none is open."""
+    if call > FIRST_FIGHT_CALL and game.fight is None:
+        raise NoDuel()
+
+
+def accepted_answer(game, call, numbers, rows):
+    """What's answered behind the 0; raises what the call is refused for."""
+    check_ranges(FORMS[call][0], numbers, rows)
+    check_duel(game, call)
+    texts = [read_text(row) for row in rows]
+    if call < FIRST_FIGHT_CALL:
+        return answer_dice_call(call, numbers, texts)
+    return answer_fight_call(game, call, numbers, texts)
+
+
+def answer_call(game, call, numbers, rows):
     """The 0 and what's answered behind it, or the refusal's number alone."""
     try:
-        check_ranges(FORMS[call][0], numbers, rows)
-        texts = [read_text(row) for row in rows]
-        return [0] + answer_dice_call(call, numbers, texts)
+        return [0] + accepted_answer(game, call, numbers, rows)
     except OutOfRange:
         return [-1]
+    except NoDuel:
+        return [-2]
     except NotDice:
         return [-3]
     except NotWithinBounds:
         return [-4]
+    except TooManyActs:
+        return [-5]
+    except AboveMost:
+        return [-6]
+    except NoActs:
+        return [-7]
+    except NoSuchAct:
+        return [-8]
+    except AlreadyOver:
+        return [-9]
 
 
-def answer_next(reader):
+def answer_next(game, reader):
     """What the next call answers."""
     call = reader.take_numbers(1)[0]
     form = FORMS[call]
@@ -74,15 +113,16 @@ def answer_next(reader):
     rows = []
     for row in range(form[1]):
         rows.append(reader.take_row())
-    return answer_call(call, numbers, rows)
+    return answer_call(game, call, numbers, rows)
 
 
 def answers(calls):
     """For each call how many numbers are answered, then these."""
+    game = Game()
     reader = Reader(calls)
     told = []
     while reader.has_more():
-        answer = answer_next(reader)
+        answer = answer_next(game, reader)
         told.append(len(answer))
         told.extend(answer)
     return told

@@ -10,6 +10,11 @@ def common_divisor(one, other):
     return one
 
 
+def common_multiple(one, other):
+    """The least number that both, which are above 0, divide."""
+    return one // common_divisor(one, other) * other
+
+
 def lowest_terms(above, below):
     """The fraction above / below as [numerator, denominator]; below is greater than 0."""
     divisor = common_divisor(abs(above), below)

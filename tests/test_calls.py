@@ -3,11 +3,13 @@
 import contextlib
 import io
 import random
+import time
 import unittest
+from collections import Counter
 
 from dicefights.duel import answers
-from helper import (BEATS, CHANCE, DIST, MEAN, READ, ROLL, TEXT, ask, call, plain_beats, plain_chance, plain_dist,
-                    plain_mean, plain_one_text, plain_parts, plain_refusal, plain_rolls, row)
+from helper import (ACTS, BEATS, BEST, CHANCE, DIST, HEAL, HURT, MEAN, ODDS, OPEN, PLAIN_FORMS, READ, ROLL, TEXT, WORTH,
+                    PlainObject, ask, call, plain_parts, plain_refusal, row)
 
 OUT = [49] * 41
 OUT_BYTE = [49, 256]
@@ -57,21 +59,6 @@ class Refusals(unittest.TestCase):
                 self.assertEqual(ask(call(BEATS, one, other)), [[refusal]])
 
 
-def wanted_answer(number, numbers, texts):
-    for text in texts:
-        if plain_refusal(text):
-            return [plain_refusal(text)]
-    return [0] + {
-        READ: lambda: [len(plain_parts(texts[0]))],
-        TEXT: lambda: list(plain_one_text(texts[0]).encode()),
-        DIST: lambda: plain_dist(texts[0]),
-        CHANCE: lambda: plain_chance(numbers[0], texts[0]),
-        BEATS: lambda: plain_beats(texts[0], texts[1]),
-        MEAN: lambda: plain_mean(texts[0]),
-        ROLL: lambda: plain_rolls(*numbers, texts[0]),
-    }[number]()
-
-
 def some_part(source):
     part = source.choice(["", "1", "2", "3"]) + "d" + source.choice("23456")
     part += source.choice(["", "", "k1", "k2", "l1", "l2"])
@@ -89,17 +76,113 @@ def some_text(source):
     return text if plain_refusal(text) or len(plain_parts(text)) <= 2 else "d6"
 
 
+def some_number(source, allowed):
+    """Most often one within the range, at times one of its ends, or one beyond."""
+    drawn = source.randrange(20)
+    if drawn == 0:
+        return source.choice([allowed[0] - 1, allowed[-1] + 1, -10 ** 18, 10 ** 18 + 1])
+    if drawn < 4:
+        return source.choice([allowed[0], allowed[-1]])
+    if len(allowed) > 100000:
+        return source.randrange(max(allowed[0], -12), min(allowed[-1], 20))
+    return source.choice(allowed)
+
+
 def some_call(source):
-    number = source.randrange(7)
-    numbers = []
-    if number == CHANCE:
-        numbers = [source.randrange(-12, 20)]
-    if number == ROLL:
-        numbers = [source.randrange(10 ** 18 + 1), source.randrange(1000001), source.randrange(1, 21)]
-    texts = [some_text(source) for _ in range(2 if number == BEATS else 1)]
-    if number == BEATS:
+    number = source.choice(list(range(14)) + [HURT, HURT, HURT, HEAL, HEAL, ODDS, ODDS, BEST, BEST, WORTH, WORTH])
+    ranges, many = PLAIN_FORMS[number]
+    numbers = [some_number(source, allowed) for allowed in ranges]
+    texts = [some_text(source) for _ in range(many)]
+    if many == 2:
         texts = [text if len(text) < 6 else "d6" for text in texts]
+    if texts and source.randrange(25) == 0:
+        texts[source.randrange(many)] = source.choice([OUT, OUT_BYTE])
     return number, numbers, texts
+
+
+def some_list(source):
+    """Up to 60 calls; some begin with a duel in which both have an act."""
+    calls = [some_call(source) for _ in range(source.randrange(1, 58))]
+    if source.randrange(4):
+        calls[:0] = [(OPEN, [source.randrange(1, 10), source.randrange(1, 10)], []),
+                     (HURT, [0, 2], ["d4", some_part(source)]), (HURT, [1, 2], ["d3", "d4-1"])]
+    return calls
+
+
+def duel_list():
+    """One call of each kind, and more of those of duels."""
+    return [
+        call(READ, "2d6"), call(TEXT, "d6k1"), call(DIST, "d4"), call(ACTS, 0), call(OPEN, 9, 7), call(CHANCE, 3, "d6"),
+        call(HURT, 0, 4, "d6", "d4"), call(HURT, 0, 6, "d6", "2d4"), call(HEAL, 0, "d3"), call(HEAL, 0, "d3"),
+        call(HURT, 1, 3, "d6", "d4"), call(BEATS, "d6", "d4"), call(HEAL, 1, "d4-1"), call(HURT, 1, 0, "x", "d4"),
+        call(ODDS, 8, 0, 9, 7), call(BEST, 8, 0, 9, 7), call(MEAN, "d6"), call(WORTH, 1, 2, 5, 4, 3), call(ACTS, 0),
+        call(ACTS, 1), call(ROLL, 1, 2, 3, "d6"), call(BEST, 5, 1, 4, 3), call(ODDS, 8, 1, 10, 7),
+        call(ODDS, 7, 1, 9, 7),
+    ]
+
+
+# Texts with the most rolls, and with the most that is to be counted of kept dice; the rolls of the first three have
+# few divisors in common, so the fractions are the longest.
+LONG = ("6d20+6d20+6d20", "6d19+6d19+6d19", "6d17+6d17+6d17")
+LONG_HARM = ("6d20-6d20+4", "6d19-6d17+3", "6d17+6d19-6d20")
+KEPT = "3d21k2+3d21k2+3d21l2"
+
+
+def heavy_duel(hits, harms, heal):
+    """A duel with 15 points and three acts on each side, in seven calls."""
+    acts = [call(HURT, side, 180 - 10 * side, hits[i], harms[i]) for side in (0, 1) for i in (0, 1)]
+    third = call(HEAL, 0, heal), call(HURT, 1, 150, hits[2], harms[2])
+    return [call(OPEN, 15, 15), *acts, *third]
+
+
+class Heavy(unittest.TestCase):
+    def check(self, calls, seconds=6):
+        self.assertLessEqual(len(calls), 60)
+        flat = [number for one in calls for number in one]
+        self.assertLessEqual(len(flat), 8000)
+        before = list(flat)
+        begin = time.process_time()
+        told = answers(flat)
+        self.assertLess(time.process_time() - begin, seconds)
+        self.assertEqual(flat, before)
+        self.assertEqual(answers(flat), told)
+
+    def test_all_fourteen_calls(self):
+        calls = []
+        for _ in range(2):
+            calls += heavy_duel(LONG, LONG_HARM, LONG_HARM[2])
+            calls += [call(ODDS, 8, who, 15, 15) for who in (0, 1)] + [call(BEST, 8, who, 15, 15) for who in (0, 1)]
+            calls += [call(WORTH, side, i, 8, 15, 15) for side in (0, 1) for i in (1, 2, 3)]
+            calls += [call(ACTS, side) for side in (0, 1)]
+            calls += [call(READ, LONG[0]), call(TEXT, LONG[0]), call(DIST, KEPT), call(CHANCE, 60, KEPT)]
+            calls += [call(BEATS, KEPT, KEPT), call(BEATS, *LONG[:2]), call(MEAN, KEPT), call(MEAN, LONG[1])]
+            calls += [call(ROLL, 10 ** 18, 1000000, 20, LONG[0]), call(ROLL, 7, 7, 20, "5d6k4+5d6k4-5d6l4")]
+        calls.append(call(ODDS, 8, 0, 14, 15))
+        self.assertEqual({one[0] for one in calls}, set(range(14)))
+        self.assertGreaterEqual(len(calls), 58)
+        self.check(calls)
+
+    def test_a_new_heavy_duel_again_and_again(self):
+        for hits, harms, heal in ((LONG, LONG_HARM, LONG_HARM[2]), ([KEPT] * 3, [KEPT] * 3, KEPT)):
+            duel = heavy_duel(hits, harms, heal) + [call(ODDS, 8, who, 15, 15) for who in (0, 1)]
+            self.check(duel * 6 + [call(ODDS, 8, 0, 15, 15)] * 6)
+
+    def test_odds_of_all_turns_and_points(self):
+        duel = heavy_duel(LONG, LONG_HARM, LONG_HARM[2])
+        self.check(duel + [call(ODDS + i % 2, 8 - i % 3, i // 2 % 2, 15 - i % 5, 15 - i % 7) for i in range(53)])
+
+    def test_the_longest_fractions_against_the_words(self):
+        plain = PlainObject()
+        made = [(OPEN, [15, 15], []), (HURT, [0, 185], [LONG[0], LONG_HARM[0]]),
+                (HURT, [0, 170], [LONG[1], LONG_HARM[1]]), (HEAL, [0], [LONG_HARM[1]]),
+                (HURT, [1, 170], [LONG[2], LONG_HARM[2]]), (HEAL, [1], [LONG_HARM[2]]),
+                (ACTS, [0], []), (ACTS, [1], [])]
+        made += [(ODDS, [8, who, 15, 15], []) for who in (0, 1)] + [(BEST, [8, who, 9, 6], []) for who in (0, 1)]
+        made += [(WORTH, [0, 3, 8, 4, 15], []), (WORTH, [1, 2, 8, 15, 4], [])]
+        told = ask(*[call(number, *numbers, *texts) for number, numbers, texts in made])
+        for one, answer in zip(made, told, strict=True):
+            self.assertEqual(answer, plain.answer(*one), one)
+        self.assertGreater(told[8][2], 2 ** 900)
 
 
 class Lists(unittest.TestCase):
@@ -120,17 +203,20 @@ class Lists(unittest.TestCase):
     def test_sixty_calls(self):
         self.assertEqual(ask(*[call(READ, "1+1"), call(READ, "x")] * 30), [[0, 2], [-3]] * 30)
 
-    def test_many_lists_in_a_row(self):
+    def test_many_lists_of_all_calls(self):
         source = random.Random(20261116)
-        seen = {}
-        for _ in range(60):
-            drawn = [some_call(source) for _ in range(source.randrange(1, 31))]
+        seen = Counter()
+        for _ in range(120):
+            drawn = some_list(source)
+            plain = PlainObject()
             told = ask(*[call(number, *numbers, *texts) for number, numbers, texts in drawn])
-            for one, answer in zip(drawn, told):
-                self.assertEqual(answer, wanted_answer(*one), one)
-                seen[one[0], answer[0]] = True
-        for number in range(7):
-            for first in (0, -3, -4):
+            for one, answer in zip(drawn, told, strict=True):
+                self.assertEqual(answer, plain.answer(*one), one)
+                seen[one[0], answer[0]] += 1
+        for number, (ranges, many) in PLAIN_FORMS.items():
+            wanted = [0] + [-1] * bool(ranges) + [-2] * (number > OPEN) + [-3, -4] * bool(many)
+            wanted += [-5] * (number in (HURT, HEAL)) + [-6, -7] * (number in (ODDS, BEST, WORTH))
+            for first in wanted + [-8, -9] * (number == WORTH):
                 self.assertIn((number, first), seen)
 
     def test_given_list_stays_and_a_second_time_is_the_same(self):
@@ -148,6 +234,32 @@ class Lists(unittest.TestCase):
         self.assertEqual(first, kept)
         self.assertEqual(answers(calls), kept)
         self.assertEqual(calls, before)
+
+    def test_the_same_for_lists_with_duels(self):
+        calls = [number for one in duel_list() for number in one]
+        before = list(calls)
+        first = answers(calls)
+        kept = list(first)
+        self.assertEqual(calls, before)
+        # A list between that opens another duel, and one that opens none, leave nothing behind.
+        self.assertEqual(ask(call(OPEN, 1, 1), call(HEAL, 0, "1"), call(HEAL, 1, "1")), [[0], [0, 1], [0, 1]])
+        self.assertEqual(ask(call(ACTS, 0)), [[-2]])
+        self.assertEqual(answers(calls), kept)
+        self.assertEqual(first, kept)
+        self.assertEqual(calls, before)
+        self.assertIs(type(answers(calls)), list)
+        self.assertEqual({type(number) for number in first}, {int})
+
+    def test_the_given_list_is_only_read(self):
+        class OnlyRead(list):
+            def refuse(self, *given):
+                raise AssertionError("the list handed in is to stay as it is, not for a while either changed")
+
+            append = extend = insert = pop = remove = clear = sort = reverse = refuse
+            __setitem__ = __delitem__ = __iadd__ = __imul__ = refuse
+
+        calls = [number for one in duel_list() for number in one]
+        self.assertEqual(answers(OnlyRead(calls)), answers(calls))
 
     def test_whole_numbers_alone_and_nothing_printed(self):
         out = io.StringIO()

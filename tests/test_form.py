@@ -20,6 +20,8 @@ NODES = """Module Expr Constant ImportFrom alias FunctionDef arguments arg Class
 WORDS = re.compile(r"\b(type|typing|typing_extensions|enum|Enum|IntEnum|StrEnum|Flag|IntFlag|Generic|Protocol|ABC|"
                    r"ABCMeta|namedtuple|NamedTuple|TypedDict|TYPE_CHECKING|abstractmethod)\b"
                    r"|dataclass|overload|contextmanager")
+NOWHERE = """register mro elements open input version_info with_traceback add_note format format_map f_back tb_next
+    co_names""".split()
 BUILTINS = set(dir(__builtins__) if not isinstance(__builtins__, dict) else __builtins__)
 PYTHONS_OWN = {name for value in ("", 0, [], {}, set(), b"", ()) for name in dir(value)}
 
@@ -86,6 +88,32 @@ class Form(unittest.TestCase):
             self.assertFalse(bound & (imported | defined | BUILTINS), path.name)
             self.assertFalse(read - bound - imported - defined - set(OWN_NAMES), path.name)
             self.assertFalse([name for name in bound | defined if name.startswith("_")], path.name)
+
+    def test_names_that_stand_nowhere(self):
+        for where, node in self.nodes(ast.Name, ast.Attribute, ast.FunctionDef, ast.ClassDef, ast.arg, ast.alias):
+            name = {ast.Name: "id", ast.Attribute: "attr", ast.arg: "arg"}.get(type(node), "name")
+            self.assertNotIn(getattr(node, name), NOWHERE, where)
+
+    def test_is_stands_beside_none_alone(self):
+        for where, node in self.nodes(ast.Compare):
+            for sign, beside in zip(node.ops, node.comparators):
+                if isinstance(sign, (ast.Is, ast.IsNot)):
+                    self.assertIsInstance(beside, ast.Constant, where)
+
+    def test_refusals_are_taken_by_name_and_one_by_one(self):
+        refusals = {node.name for _, node in self.nodes(ast.ClassDef) if node.bases}
+        taken = [node.type.id for _, node in self.nodes(ast.ExceptHandler)]
+        self.assertEqual(sorted(taken), sorted(refusals))
+        self.assertEqual(len(taken), 9)
+
+    def test_no_row_or_dict_of_a_top_is_changed(self):
+        for path, tree in self.trees.items():
+            tops = {node.targets[0].id for node in tree.body if isinstance(node, ast.Assign)}
+            for node in ast.walk(tree):
+                if isinstance(node, ast.Subscript) and isinstance(node.value, ast.Name) and node.value.id in tops:
+                    self.assertIsInstance(node.ctx, ast.Load, path.name)
+                if isinstance(node, ast.Attribute) and isinstance(node.value, ast.Name):
+                    self.assertNotIn(node.value.id, tops, path.name)
 
     def test_methods_and_values(self):
         own_methods = {part.name for _, node in self.nodes(ast.ClassDef) for part in node.body
